@@ -1,0 +1,1 @@
+"""Groupbooks: the books of firms that own one another."""

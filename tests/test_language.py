@@ -1,0 +1,171 @@
+"""Holds the package to those rules of LANGUAGE.md that can be seen row by row."""
+
+import ast
+import builtins
+import re
+import unittest
+from pathlib import Path
+
+PACKAGE = Path(__file__).resolve().parent.parent / "groupbooks"
+
+STATEMENTS = (
+    ast.Assign, ast.AugAssign, ast.If, ast.While, ast.For, ast.Return, ast.Break, ast.Continue, ast.Pass, ast.Raise,
+    ast.Try, ast.ExceptHandler, ast.Expr, ast.FunctionDef, ast.ClassDef, ast.ImportFrom,
+)
+EXPRESSIONS = (
+    ast.Constant, ast.List, ast.Tuple, ast.Dict, ast.Set, ast.BinOp, ast.UnaryOp, ast.BoolOp, ast.Compare, ast.IfExp,
+    ast.Call, ast.Attribute, ast.Subscript, ast.Slice, ast.ListComp, ast.JoinedStr, ast.FormattedValue, ast.Name,
+    ast.Lambda,
+)
+PARTS = (
+    ast.Module, ast.arguments, ast.arg, ast.keyword, ast.alias, ast.comprehension, ast.expr_context, ast.boolop,
+    ast.operator, ast.unaryop, ast.cmpop,
+)
+OWN_NAMES = set(
+    "len range enumerate zip min max sum abs sorted reversed int str bool list tuple dict set frozenset isinstance ord "
+    "repr any all divmod Exception ValueError TypeError KeyError IndexError LookupError ZeroDivisionError "
+    "ArithmeticError OverflowError RuntimeError NotImplementedError AttributeError StopIteration".split())
+UNDERSCORED = {"__init__", "__eq__", "__repr__", "__str__", "__len__"}
+UNUSED = set("register mro elements open input version_info with_traceback add_note format format_map args".split())
+WORDS = re.compile(
+    r"\b(type|typing|typing_extensions|enum|Enum|IntEnum|StrEnum|Flag|IntFlag|Generic|Protocol|ABC|ABCMeta|namedtuple|"
+    r"NamedTuple|TypedDict|TYPE_CHECKING|abstractmethod)\b|dataclass|overload|contextmanager")
+
+
+def faults_of_text(text):
+    rows = text.split("\n")
+    faults = []
+    if len(rows) > 401:
+        faults.append("L10 a file of more than 400 rows")
+    for number, row in enumerate(rows, start=1):
+        if len(row) > 120:
+            faults.append(f"L10 row {number} is too long")
+        if any(not " " <= sign <= "~" for sign in row):
+            faults.append(f"L14 row {number} has a sign of another kind")
+        if WORDS.search(row):
+            faults.append(f"L17 row {number} has a word that stands nowhere")
+    return faults
+
+
+def names_bound(node):
+    if isinstance(node, (ast.FunctionDef, ast.ClassDef)):
+        return [node.name]
+    if isinstance(node, ast.arg):
+        return [node.arg]
+    if isinstance(node, ast.Name) and isinstance(node.ctx, ast.Store):
+        return [node.id]
+    if isinstance(node, ast.Attribute):
+        return [node.attr]
+    return []
+
+
+def faults_of_names(node):
+    faults = []
+    for name in names_bound(node):
+        if name.startswith("_") and name not in UNDERSCORED:
+            faults.append(f"L12 {name}")
+        if name in UNUSED:
+            faults.append(f"L17, L26 {name}")
+        if hasattr(builtins, name) and name not in UNDERSCORED and not isinstance(node, ast.Attribute):
+            faults.append(f"L15 {name}")
+    if isinstance(node, ast.Name) and hasattr(builtins, node.id) and node.id not in OWN_NAMES:
+        faults.append(f"L8 {node.id}")
+    return faults
+
+
+def faults_of_def(node):
+    faults = []
+    given = node.args
+    if given.vararg or given.kwarg or given.kwonlyargs or given.posonlyargs or node.decorator_list:
+        faults.append(f"L4 {node.name}")
+    if node.end_lineno - node.lineno + 1 > 40:
+        faults.append(f"L10 {node.name}")
+    return faults
+
+
+def faults_of_form(node):
+    if not isinstance(node, STATEMENTS + EXPRESSIONS + PARTS):
+        return ["L6, L7 " + node.__class__.__name__]
+    if isinstance(node, (ast.Div, ast.MatMult)):
+        return ["L7 " + node.__class__.__name__]
+    if isinstance(node, ast.FunctionDef):
+        return faults_of_def(node)
+    if isinstance(node, ast.ClassDef) and (len(node.bases) > 1 or node.keywords or node.decorator_list):
+        return ["L5 " + node.name]
+    if isinstance(node, ast.ImportFrom) and (node.level or not node.module.startswith("groupbooks.")):
+        return ["L2 an import from elsewhere"]
+    if isinstance(node, (ast.For, ast.While)) and node.orelse:
+        return ["L6 an else behind a loop"]
+    if isinstance(node, ast.Assign) and len(node.targets) > 1:
+        return ["L6 several targets"]
+    if isinstance(node, ast.Try) and node.finalbody:
+        return ["L6 finally"]
+    if isinstance(node, ast.Constant) and isinstance(node.value, (float, complex, bytes)):
+        return ["L7 " + repr(node.value)]
+    if isinstance(node, ast.Constant) and isinstance(node.value, str) and "%" in node.value:
+        return ["L27 a text with the sign for rests"]
+    if isinstance(node, ast.ListComp) and (len(node.generators) > 1 or len(node.generators[0].ifs) > 1):
+        return ["L7 a comprehension of several steps"]
+    return []
+
+
+def faults_of_top(tree):
+    faults = []
+    for place, node in enumerate(tree.body):
+        written = isinstance(node, ast.Expr) and isinstance(node.value, ast.Constant) and place == 0
+        if not written and not isinstance(node, (ast.ImportFrom, ast.FunctionDef, ast.ClassDef, ast.Assign)):
+            faults.append(f"L3 row {node.lineno}")
+    return faults
+
+
+def faults_of(text):
+    tree = ast.parse(text)
+    faults = faults_of_text(text) + faults_of_top(tree)
+    for node in ast.walk(tree):
+        faults.extend(faults_of_form(node))
+        faults.extend(faults_of_names(node))
+    return faults
+
+
+def methods_and_values(trees):
+    methods, values = set(), set()
+    for tree in trees:
+        for node in ast.walk(tree):
+            if isinstance(node, ast.ClassDef):
+                methods.update(part.name for part in node.body if isinstance(part, ast.FunctionDef))
+            if isinstance(node, ast.Attribute) and isinstance(node.ctx, ast.Store):
+                values.add(node.attr)
+    return methods, values
+
+
+class TestLanguage(unittest.TestCase):
+    def files(self):
+        return [path for path in sorted(PACKAGE.rglob("*")) if "__pycache__" not in path.parts]
+
+    def test_only_plain_files(self):
+        for path in self.files():
+            self.assertTrue(path.is_file(), path)
+            self.assertRegex(path.name, r"^([a-z][a-z0-9_]*|__init__)\.py$")
+
+    def test_each_file_keeps_to_the_rules(self):
+        for path in self.files():
+            self.assertEqual(faults_of(path.read_text(encoding="utf-8")), [], path)
+
+    def test_no_name_is_a_method_and_a_value(self):
+        methods, values = methods_and_values([ast.parse(path.read_text(encoding="utf-8")) for path in self.files()])
+        self.assertEqual(methods & values, set())
+
+    def test_faults_are_seen(self):
+        wrong = [
+            "x = 1 / 2", "x = 1.5", "import os", "from os import path", "from . import errors", "x = y = 1",
+            "def f(*a):\n    pass", "def f(id):\n    pass", "x = getattr", "x = {a: a for a in []}", "x = chr(3)",
+            "def f():\n    with a:\n        pass", "class A(B, C):\n    pass", "f()", "x = '%'", "x = [1 for a in b for c in a]",
+            "def f():\n" + "    pass\n" * 40, "# " + "x" * 120, "# a type", "x_ = _x = 1", "def f(a):\n    a.args = 1",
+            "for a in b:\n    pass", "def f():\n    while a:\n        pass\n    else:\n        pass",
+        ]
+        for text in wrong:
+            self.assertNotEqual(faults_of(text), [], text)
+
+
+if __name__ == "__main__":
+    unittest.main()
