@@ -27,6 +27,10 @@ OWN_NAMES = set(
     "ArithmeticError OverflowError RuntimeError NotImplementedError AttributeError StopIteration".split())
 UNDERSCORED = {"__init__", "__eq__", "__repr__", "__str__", "__len__"}
 UNUSED = set("register mro elements open input version_info with_traceback add_note format format_map args".split())
+METHODS = set(
+    "append clear copy count endswith extend find get index insert isalnum isalpha isdigit islower isspace isupper items "
+    "join keys ljust lower lstrip partition pop remove replace reverse rfind rjust rpartition rsplit rstrip setdefault "
+    "split splitlines startswith strip update upper values zfill bit_length __init__".split())
 WORDS = re.compile(
     r"\b(type|typing|typing_extensions|enum|Enum|IntEnum|StrEnum|Flag|IntFlag|Generic|Protocol|ABC|ABCMeta|namedtuple|"
     r"NamedTuple|TypedDict|TYPE_CHECKING|abstractmethod)\b|dataclass|overload|contextmanager")
@@ -109,6 +113,25 @@ def faults_of_form(node):
     return []
 
 
+def faults_of_is(node):
+    if not isinstance(node, ast.Compare) or not any(isinstance(sign, (ast.Is, ast.IsNot)) for sign in node.ops):
+        return []
+    plain = [isinstance(side, ast.Constant) and side.value in (None, True, False) for side in node.comparators]
+    return [] if all(plain) else [f"L20 row {node.lineno}"]
+
+
+def faults_of_locals(tree):
+    """L15: no parameter and no local bears the name of a class or an import of its file."""
+    taken = set()
+    for node in tree.body:
+        if isinstance(node, ast.ImportFrom):
+            taken.update(part.asname or part.name for part in node.names)
+        if isinstance(node, ast.ClassDef):
+            taken.add(node.name)
+    inner = [node for node in ast.walk(tree) if isinstance(node, (ast.arg, ast.Name))]
+    return [f"L15 {name}" for node in inner for name in names_bound(node) if name in taken]
+
+
 def faults_of_top(tree):
     faults = []
     for place, node in enumerate(tree.body):
@@ -120,11 +143,26 @@ def faults_of_top(tree):
 
 def faults_of(text):
     tree = ast.parse(text)
-    faults = faults_of_text(text) + faults_of_top(tree)
+    faults = faults_of_text(text) + faults_of_top(tree) + faults_of_locals(tree)
     for node in ast.walk(tree):
         faults.extend(faults_of_form(node))
         faults.extend(faults_of_names(node))
+        faults.extend(faults_of_is(node))
     return faults
+
+
+def drawn_from(tree):
+    """L16: each file drawn from, with the names that are drawn."""
+    rows = [node for node in tree.body if isinstance(node, ast.ImportFrom)]
+    return {row.module.removeprefix("groupbooks."): [part.name for part in row.names] for row in rows}
+
+
+def in_rounds(draws, name, path=()):
+    return name in path or any(in_rounds(draws, other, path + (name,)) for other in draws.get(name, ()))
+
+
+def methods_called(tree):
+    return {node.func.attr for node in ast.walk(tree) if isinstance(node, ast.Call) and isinstance(node.func, ast.Attribute)}
 
 
 def methods_and_values(trees):
@@ -151,9 +189,29 @@ class TestLanguage(unittest.TestCase):
         for path in self.files():
             self.assertEqual(faults_of(path.read_text(encoding="utf-8")), [], path)
 
+    def trees(self):
+        return {path.stem: ast.parse(path.read_text(encoding="utf-8")) for path in self.files()}
+
     def test_no_name_is_a_method_and_a_value(self):
-        methods, values = methods_and_values([ast.parse(path.read_text(encoding="utf-8")) for path in self.files()])
+        methods, values = methods_and_values(self.trees().values())
         self.assertEqual(methods & values, set())
+
+    def test_methods_called_are_the_package_s_own_or_listed(self):
+        methods = methods_and_values(self.trees().values())[0]
+        for name, tree in self.trees().items():
+            self.assertEqual(methods_called(tree) - methods - METHODS, set(), name)
+
+    def test_names_are_drawn_from_the_file_that_defines_them(self):
+        trees = self.trees()
+        for name, tree in trees.items():
+            for other, names in drawn_from(tree).items():
+                defined = {one for node in trees[other].body if not isinstance(node, ast.ImportFrom) for one in names_bound(node)}
+                self.assertEqual(set(names) - defined, set(), (name, other))
+
+    def test_no_files_draw_from_one_another(self):
+        draws = {name: list(drawn_from(tree)) for name, tree in self.trees().items()}
+        self.assertEqual([name for name in draws if in_rounds(draws, name)], [])
+        self.assertTrue(in_rounds({"a": ["b"], "b": ["c"], "c": ["a"]}, "a"))
 
     def test_faults_are_seen(self):
         wrong = [
@@ -161,6 +219,8 @@ class TestLanguage(unittest.TestCase):
             "def f(*a):\n    pass", "def f(id):\n    pass", "x = getattr", "x = {a: a for a in []}", "x = chr(3)",
             "def f():\n    with a:\n        pass", "class A(B, C):\n    pass", "f()", "x = '%'", "x = [1 for a in b for c in a]",
             "def f():\n" + "    pass\n" * 40, "# " + "x" * 120, "# a type", "x_ = _x = 1", "def f(a):\n    a.args = 1",
+            "def f(a, b):\n    return a is b", "from groupbooks.errors import NoRow\ndef f(NoRow):\n    pass",
+            "class A:\n    pass\ndef f():\n    A = 1",
             "for a in b:\n    pass", "def f():\n    while a:\n        pass\n    else:\n        pass",
         ]
         for text in wrong:
