@@ -31,6 +31,8 @@ METHODS = set(
     "append clear copy count endswith extend find get index insert isalnum isalpha isdigit islower isspace isupper items "
     "join keys ljust lower lstrip partition pop remove replace reverse rfind rjust rpartition rsplit rstrip setdefault "
     "split splitlines startswith strip update upper values zfill bit_length __init__".split())
+WALKED = set("zip enumerate reversed range items keys values".split())
+WALKERS = set("list tuple dict sorted sum any all enumerate zip min max join".split())
 WORDS = re.compile(
     r"\b(type|typing|typing_extensions|enum|Enum|IntEnum|StrEnum|Flag|IntFlag|Generic|Protocol|ABC|ABCMeta|namedtuple|"
     r"NamedTuple|TypedDict|TYPE_CHECKING|abstractmethod)\b|dataclass|overload|contextmanager")
@@ -120,6 +122,28 @@ def faults_of_is(node):
     return [] if all(plain) else [f"L20 row {node.lineno}"]
 
 
+def called(node):
+    """The name by which something is called, a method's too; None where nothing is."""
+    if not isinstance(node, ast.Call):
+        return None
+    return node.func.attr if isinstance(node.func, ast.Attribute) else getattr(node.func, "id", None)
+
+
+def faults_of_walks(node):
+    """L23: what is only to be walked stands where it is walked; L24: a set stands where it is asked or sorted."""
+    faults = []
+    for name, field in ast.iter_fields(node):
+        for place, part in enumerate(field if isinstance(field, list) else [field]):
+            walked = isinstance(node, (ast.For, ast.comprehension)) and name == "iter"
+            within = called(node) in WALKERS and name == "args" and (place == 0 or called(node) == "zip")
+            if called(part) in WALKED and not walked and not within:
+                faults.append(f"L23 {called(part)}")
+            asked = isinstance(node, ast.Compare) or (called(node) in ("sorted", "len") and not node.keywords)
+            if called(part) in ("set", "frozenset") and not asked:
+                faults.append(f"L24 {called(part)}")
+    return faults
+
+
 def faults_of_locals(tree):
     """L15: no parameter and no local bears the name of a class or an import of its file."""
     taken = set()
@@ -148,6 +172,7 @@ def faults_of(text):
         faults.extend(faults_of_form(node))
         faults.extend(faults_of_names(node))
         faults.extend(faults_of_is(node))
+        faults.extend(faults_of_walks(node))
     return faults
 
 
@@ -221,6 +246,8 @@ class TestLanguage(unittest.TestCase):
             "def f():\n" + "    pass\n" * 40, "# " + "x" * 120, "# a type", "x_ = _x = 1", "def f(a):\n    a.args = 1",
             "def f(a, b):\n    return a is b", "from groupbooks.errors import NoRow\ndef f(NoRow):\n    pass",
             "class A:\n    pass\ndef f():\n    A = 1",
+            "def f(a):\n    b = zip(a, a)", "def f(a):\n    return a.items()", "def f(a):\n    return sorted(a, key=a.keys())",
+            "def f(a):\n    b = set(a)", "def f(a):\n    for b in set(a):\n        pass", "def f(a):\n    return list(set(a))",
             "for a in b:\n    pass", "def f():\n    while a:\n        pass\n    else:\n        pass",
         ]
         for text in wrong:
